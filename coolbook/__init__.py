@@ -1,0 +1,1 @@
+"""Coolbook: how long a thing may lie warm in all."""

@@ -1,0 +1,147 @@
+"""The rules of ../shared/LANGUAGE.md that can be looked up row by row; the others are kept by reading."""
+
+import ast
+import builtins
+import os
+import re
+import unittest
+import warnings
+
+FOLDER = os.path.join(os.path.dirname(os.path.dirname(os.path.abspath(__file__))), "coolbook")
+BUILTINS = set(
+    "len range enumerate zip min max sum abs sorted reversed int str bool bytes list tuple dict set frozenset "
+    "isinstance ord repr any all divmod super property staticmethod classmethod object float "
+    "Exception ValueError TypeError KeyError IndexError LookupError ZeroDivisionError ArithmeticError "
+    "OverflowError RuntimeError NotImplementedError AttributeError StopIteration NotImplemented".split()
+)
+METHODS = set(
+    "append clear copy count endswith extend find get index insert isalnum isalpha isdigit islower isspace isupper "
+    "items join keys ljust lower lstrip partition pop remove replace reverse rfind rjust rpartition rsplit rstrip "
+    "setdefault split splitlines startswith strip update upper values zfill bit_length "
+    "title capitalize swapcase casefold center expandtabs removeprefix removesuffix rindex isascii isdecimal "
+    "isnumeric istitle isidentifier isprintable translate maketrans encode decode hex from_bytes sort add discard "
+    "__init__".split()
+)
+STATEMENTS = (
+    ast.FunctionDef, ast.ClassDef, ast.Return, ast.Delete, ast.Assign, ast.AugAssign, ast.AnnAssign, ast.For,
+    ast.While, ast.If, ast.With, ast.Match, ast.Raise, ast.Try, ast.Assert, ast.ImportFrom, ast.Nonlocal, ast.Expr,
+    ast.Pass, ast.Break, ast.Continue,
+)
+BARRED_WORDS = re.compile(
+    r"\b(type|typing|typing_extensions|enum|Enum|IntEnum|StrEnum|Flag|IntFlag|Generic|Protocol|ABC|ABCMeta|"
+    r"namedtuple|NamedTuple|TypedDict|TYPE_CHECKING|abstractmethod)\b|dataclass|overload|contextmanager"
+)
+
+
+def files():
+    return sorted(name for name in os.listdir(FOLDER) if name != "__pycache__")
+
+
+def text_of(name):
+    with open(os.path.join(FOLDER, name), encoding="utf-8", newline="") as held:
+        return held.read()
+
+
+def nodes():
+    for name in files():
+        for node in ast.walk(ast.parse(text_of(name))):
+            yield f"{name}:{getattr(node, 'lineno', 0)}", node
+
+
+def names_bound(node):
+    if isinstance(node, (ast.FunctionDef, ast.ClassDef)):
+        return [node.name]
+    if isinstance(node, ast.arg):
+        return [node.arg]
+    if isinstance(node, ast.Name) and isinstance(node.ctx, ast.Store):
+        return [node.id]
+    return []
+
+
+def own_methods():
+    return {row.name for place, node in nodes() if isinstance(node, ast.ClassDef)
+            for row in node.body if isinstance(row, ast.FunctionDef)}
+
+
+class Files(unittest.TestCase):
+    def test_only_plain_files(self):
+        self.assertIn("__init__.py", files())
+        for name in files():
+            self.assertRegex(name, r"^[a-z0-9_]+\.py$")
+
+    def test_signs_and_sizes(self):
+        for name in files():
+            text = text_of(name)
+            rows = text.split("\n")
+            self.assertEqual([sign for sign in text if not (" " <= sign <= "~" or sign == "\n")], [], name)
+            self.assertLessEqual(len(rows) - 1, 400, name)
+            self.assertLessEqual(max(len(row) for row in rows), 120, name)
+            self.assertNotIn("%", text, name)
+
+    def test_barred_words(self):
+        for name in files():
+            self.assertIsNone(BARRED_WORDS.search(text_of(name)), name)
+
+    def test_python_gives_no_warning(self):
+        with warnings.catch_warnings():
+            warnings.simplefilter("error")
+            for name in files():
+                compile(text_of(name), name, "exec")
+
+
+class Rows(unittest.TestCase):
+    def test_functions_are_short(self):
+        for place, node in nodes():
+            if isinstance(node, ast.FunctionDef):
+                self.assertLessEqual(node.end_lineno - node.lineno + 1, 40, place)
+
+    def test_statements(self):
+        for place, node in nodes():
+            if isinstance(node, ast.stmt):
+                self.assertIsInstance(node, STATEMENTS, place)
+            if isinstance(node, ast.Expr):
+                docstring = isinstance(node.value, ast.Constant) and isinstance(node.value.value, str)
+                self.assertTrue(docstring or isinstance(node.value, (ast.Call, ast.Yield, ast.YieldFrom)), place)
+
+    def test_imports_are_of_the_package(self):
+        for place, node in nodes():
+            if isinstance(node, ast.ImportFrom):
+                self.assertEqual(node.level, 0, place)
+                self.assertTrue(node.module == "__future__" or node.module.startswith("coolbook."), place)
+                self.assertNotIn("*", [row.name for row in node.names], place)
+
+    def test_names_are_plain(self):
+        for place, node in nodes():
+            for name in names_bound(node):
+                dunder = isinstance(node, ast.FunctionDef) and name.startswith("__") and name.endswith("__")
+                self.assertTrue(dunder or not name.startswith("_"), (place, name))
+                self.assertNotIn(name, dir(builtins) if not isinstance(node, ast.FunctionDef) else (), (place, name))
+
+    def test_builtins(self):
+        for place, node in nodes():
+            if isinstance(node, ast.Name) and node.id in dir(builtins):
+                self.assertIn(node.id, BUILTINS, place)
+
+    def test_methods(self):
+        own = own_methods()
+        for place, node in nodes():
+            if isinstance(node, ast.Call) and isinstance(node.func, ast.Attribute):
+                self.assertIn(node.func.attr, METHODS | own, place)
+
+    def test_numbers_have_no_point(self):
+        for place, node in nodes():
+            self.assertNotIsInstance(node, (ast.Div, ast.Await), place)
+            if isinstance(node, ast.Constant):
+                self.assertNotIsInstance(node.value, (float, complex), place)
+
+    def test_is_stands_beside_none_and_truths_alone(self):
+        for place, node in nodes():
+            if isinstance(node, ast.Compare):
+                for sign, other in zip(node.ops, node.comparators):
+                    if isinstance(sign, (ast.Is, ast.IsNot)):
+                        self.assertIsInstance(other, ast.Constant, place)
+                        self.assertIn(other.value, (None, True, False), place)
+
+
+if __name__ == "__main__":
+    unittest.main()
