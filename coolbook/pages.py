@@ -80,6 +80,16 @@ def last_told(book, room, hour):
     return None
 
 
+def warmth_table(book):
+    """Tell all WARMTHS by (room, HOUR) of what is known to be a BOOK: for those who look up many."""
+    table = {}
+    for room, first, warmths in book:
+        for hour, warmth in enumerate(warmths, start=first):
+            # PAGES stand in the order in which they came, so the last one stays.
+            table[(room, hour)] = warmth
+    return table
+
+
 def warmth_at(book, room, hour):
     """Tell the WARMTH that a room has at an HOUR by a BOOK, None where the HOUR is UNTOLD."""
     need_book(book)

@@ -1,6 +1,17 @@
-"""What the tests share: things of any kind, and how a refusal is asked for."""
+"""What the tests share: good things, things of any kind that are none, and how a refusal is asked for."""
+
+import itertools
+import random
 
 from coolbook.errors import CoolError
+
+PAGE = ("a", 5, (3, 0, -2))
+BOOK = (PAGE, ("b", 0, (1,)), ("a", 6, (9, -2, 4)))
+FULL = tuple(("a", hour, (hour,)) for hour in range(60))
+BARRED = ("page", "most", "lot", "at", "end", "grade", "none")
+BUDGET = (((4, 1), (8, 3)), 40)
+GRADE = (BUDGET, (((20, 9),), 9))
+TRACK = ((((), (("a", 0, 5),)),), (("b", 5, 9),))
 
 
 class Bare:
@@ -107,6 +118,10 @@ def odd_texts():
     ]
 
 
+def anything():
+    return odd_things() + odd_tuples() + odd_numbers() + odd_texts()
+
+
 def refusal_of(function, *arguments):
     """The class itself of the refusal that a call ends in, None where it ends in none."""
     try:
@@ -114,3 +129,415 @@ def refusal_of(function, *arguments):
     except CoolError as error:
         return error.__class__
     return None
+
+
+def refusals_in_order(function, arguments):
+    """Pairs (class told, class due), for all ways to hand in good or bad arguments: triples (good, bad, class)."""
+    for choice in itertools.product((False, True), repeat=len(arguments)):
+        given = [row[1] if bad else row[0] for bad, row in zip(choice, arguments)]
+        due = [row[2] for bad, row in zip(choice, arguments) if bad]
+        yield refusal_of(function, *given), due[0] if due else None
+
+
+def no_pages():
+    """Pairs (label, thing): things that are no PAGE, those a step beside one included."""
+    beside = [
+        (),
+        ("a",),
+        ("a", 0),
+        ("a", 0, (1,), 0),
+        ("a", 0, (1,), None),
+        ["a", 0, (1,)],
+        ("a", 0, [1]),
+        ("a", 0, 1),
+        ("a", 0, "1"),
+        ("a", 0, ()),
+        ("a", 0, (1,) * 49),
+        ("a", 999, (1, 1)),
+        ("a", 952, (1,) * 49),
+        ("a", 953, (1,) * 48),
+        ("a", 1000, (1,)),
+        ("a", -1, (1,)),
+        ("a", -1, (1, 1, 1)),
+        ("a", "0", (1,)),
+        ("a", True, (1,)),
+        ("a", False, (1,)),
+        ("a", 0, (61,)),
+        ("a", 0, (-61,)),
+        ("a", 0, (True,)),
+        ("a", 0, (5, False)),
+        ("a", 0, (5, 5, True, 5)),
+        ("a", 0, (0,) * 47 + (False,)),
+        ("a", 0, (1, 1.0)),
+        ("a", 0, (1, None)),
+        ("a", 0, (1, "1")),
+        ("a", 0, (1, (1,))),
+        ("a", 0, ((1,),)),
+        ("", 0, (1,)),
+        ("abcdefg", 0, (1,)),
+        ("A", 0, (1,)),
+        ("a1", 0, (1,)),
+        ("a ", 0, (1,)),
+        ("a\n", 0, (1,)),
+        (b"a", 0, (1,)),
+        (1, 0, (1,)),
+        (0, "a", (1,)),
+        ((1,), 0, "a"),
+        "a",
+        "abc",
+        5,
+        {"a": 0, "b": 1, "c": 2},
+        PAGE[:2],
+        (PAGE,),
+        BOOK,
+    ]
+    beside += [(word, 0, (1,)) for word in BARRED]
+    rows = [(f"beside {at}", thing) for at, thing in enumerate(beside)]
+    odd = odd_things() + odd_tuples() + odd_numbers() + odd_texts()
+    rows += odd
+    rows += [(f"room {label}", (thing, 0, (1,))) for label, thing in odd]
+    rows += [(f"hour {label}", ("a", thing, (1,))) for label, thing in odd]
+    rows += [(f"warmths {label}", ("a", 0, thing)) for label, thing in odd]
+    rows += [(f"warmth {label}", ("a", 0, (1, thing))) for label, thing in odd]
+    rows += [(f"fourth {label}", ("a", 0, (1,), thing)) for label, thing in odd]
+    return rows
+
+
+def no_books():
+    """Pairs (label, thing): things that are no BOOK."""
+    beside = [
+        [],
+        [PAGE],
+        PAGE,
+        {},
+        "",
+        None,
+        0,
+        (PAGE, list(PAGE)),
+        (PAGE, None),
+        (None,),
+        ((),),
+        ((PAGE,),),
+        (PAGE, BOOK),
+        (PAGE, 0),
+        FULL + (PAGE,),
+        (PAGE,) * 61,
+        FULL[:59] + (("a", 0, ()),),
+        (("a", 0, (True,)),),
+        (PAGE, ("a", 0, (1, False))),
+    ]
+    rows = [(f"beside {at}", thing) for at, thing in enumerate(beside)]
+    rows += odd_things() + odd_tuples() + odd_numbers() + odd_texts()
+    rows += [(f"one {label}", (thing,)) for label, thing in no_pages()]
+    rows += [(f"behind {label}", (PAGE, thing)) for label, thing in no_pages()]
+    rows += [(f"ahead {label}", (thing, PAGE)) for label, thing in no_pages()]
+    return rows
+
+
+def no_names():
+    rows = [(repr(word), word) for word in BARRED + ("", "abcdefg", "A", "a1", "a b", "a\n")]
+    return rows + odd_things() + odd_tuples() + odd_numbers() + odd_texts()
+
+
+def no_hours():
+    rows = [(str(hour), hour) for hour in (-1, 1000, 1001, -1000)] + [("text", "5"), ("tuple", (5,))]
+    return rows + odd_things() + odd_tuples() + odd_numbers() + odd_texts()
+
+
+def table_of(book):
+    """By (room, hour) what a BOOK tells, told page by page: a second way to the same, for the tests."""
+    table = {}
+    for room, first, warmths in book:
+        for at, warmth in enumerate(warmths):
+            table[room, first + at] = warmth
+    return table
+
+
+def some_page(chance):
+    first = chance.choice((0, 1, 2, 5, 8, 990, 998, 999, chance.randrange(1000)))
+    many = min(chance.choice((1, 2, 3, 9, 48)), 1000 - first)
+    return (chance.choice("abc"), first, tuple(chance.randint(-2, 2) for _ in range(many)))
+
+
+def some_books():
+    chance = random.Random(7)
+    return [tuple(some_page(chance) for _ in range(chance.randrange(13))) for _ in range(60)] + [(), FULL]
+
+
+def no_budgets():
+    """Pairs (label, thing): things that are no BUDGET, those a step beside one included."""
+    beside = [
+        (),
+        (((4, 1),),),
+        (((4, 1),), 40, 40),
+        (((4, 1),), 40, None),
+        [((4, 1),), 40],
+        ([(4, 1)], 40),
+        (([4, 1],), 40),
+        (((4, 1), [8, 3]), 40),
+        ((), 40),
+        ((4, 1), 40),
+        (4, 1),
+        (40, ((4, 1),)),
+        (tuple((at, 1) for at in range(6)), 40),
+        (tuple((at, 1) for at in range(1000)), 40),
+        (((-61, 1),), 40),
+        (((61, 1),), 40),
+        (((4, 1), (61, 1)), 40),
+        (((4, 1), (4, 1)), 40),
+        (((4, 1), (4, 2)), 40),
+        (((4, 1), (3, 1)), 40),
+        (((1, 1), (2, 1), (2, 1)), 40),
+        (((1, 1), (2, 1), (0, 1)), 40),
+        (((1, 1), (5, 1), (3, 1), (6, 1)), 40),
+        (((4, -1),), 40),
+        (((4, 10),), 40),
+        (((4, 1), (8, 10)), 40),
+        (((4, 1), (8, -1)), 40),
+        (((4, 1),), -1),
+        (((4, 1),), 10_000),
+        (((4, 1),), None),
+        (((4, 1),), "40"),
+        (((4, 1),), (40,)),
+        (((4,),), 40),
+        (((),), 40),
+        (((4, 1, 1),), 40),
+        (((4, 1), (8,)), 40),
+        (((4, 1), (8, 3, 0)), 40),
+        (((4, 1), 8), 40),
+        (((4, 1), None), 40),
+        (((True, 1),), 40),
+        (((False, 1),), 40),
+        (((4, True),), 40),
+        (((4, False),), 40),
+        (((0, 1), (True, 1)), 40),
+        (((4, 1), (8, True)), 40),
+        (((4, 1), (8, False)), 40),
+        (((4, 1),), True),
+        (((4, 1),), False),
+        (("41",), 40),
+        (("4", "1"), 40),
+        "ab",
+        GRADE,
+        (BUDGET,),
+    ]
+    rows = [(f"beside {at}", thing) for at, thing in enumerate(beside)]
+    odd = anything()
+    rows += odd
+    rows += [(f"rates {label}", (thing, 40)) for label, thing in odd]
+    rows += [(f"most {label}", (((4, 1),), thing)) for label, thing in odd]
+    rows += [(f"rate {label}", ((thing,), 40)) for label, thing in odd]
+    rows += [(f"rate behind {label}", (((4, 1), thing), 40)) for label, thing in odd]
+    rows += [(f"above {label}", (((4, 1), (thing, 1)), 40)) for label, thing in odd]
+    rows += [(f"units {label}", (((4, 1), (8, thing)), 40)) for label, thing in odd]
+    rows += [(f"third {label}", (((4, 1),), 40, thing)) for label, thing in odd]
+    return rows
+
+
+def no_grades():
+    """Pairs (label, thing): things that are no GRADE."""
+    beside = [
+        (),
+        [BUDGET],
+        BUDGET,
+        (BUDGET,) * 4,
+        (BUDGET,) * 1000,
+        (BUDGET, list(BUDGET)),
+        (BUDGET, GRADE),
+        (GRADE,),
+        (BUDGET, None),
+        (BUDGET, 0),
+        (BUDGET, BUDGET, ()),
+        "abc",
+        {0: BUDGET},
+    ]
+    rows = [(f"beside {at}", thing) for at, thing in enumerate(beside)]
+    rows += anything()
+    budgets = no_budgets()
+    rows += [(f"one {label}", (thing,)) for label, thing in budgets]
+    rows += [(f"behind {label}", (BUDGET, thing)) for label, thing in budgets]
+    rows += [(f"ahead {label}", (thing, BUDGET)) for label, thing in budgets]
+    rows += [(f"last {label}", (BUDGET, BUDGET, thing)) for label, thing in budgets]
+    return rows
+
+
+def no_warmths():
+    rows = [(str(warmth), warmth) for warmth in (-61, 61, 62, 1000)] + [("text", "5"), ("tuple", (5,))]
+    return rows + anything()
+
+
+def some_budget(chance):
+    """A BUDGET with few ABOVES near one another, so that two of them are often alike."""
+    aboves = sorted(chance.sample(range(-3, 4), chance.randint(1, 5)))
+    return (tuple((above, chance.choice((0, 0, 1, 2, 9))) for above in aboves), chance.choice((0, 3, 9, 20, 60)))
+
+
+def some_grade(chance):
+    return tuple(some_budget(chance) for _ in range(chance.randint(1, 3)))
+
+
+def lot(begin, end, *parts, room="a"):
+    """A TRACK of a single STAY."""
+    return (parts, ((room, begin, end),))
+
+
+def nested(many, wide=1):
+    """So many things like TRACKS within one another, each as often as told in the one around it."""
+    thing = lot(0, 1)
+    for begin in range(1, many):
+        thing = lot(begin, begin + 1, *(thing,) * wide)
+    return thing
+
+
+def spread(*inner):
+    """A thing like a TRACK with a part for each number, that has so many parts itself."""
+    return lot(2, 3, *(lot(1, 2, *(lot(0, 1),) * many) for many in inner))
+
+
+def no_stays():
+    """Pairs (label, thing): things that are no STAY, those a step beside one included."""
+    beside = [
+        (),
+        ("a",),
+        ("a", 0),
+        ("a", 0, 1, 2),
+        ["a", 0, 1],
+        ("a", 0, 0),
+        ("a", 5, 5),
+        ("a", 5, 4),
+        ("a", 5, 0),
+        ("a", -1, 1),
+        ("a", 0, 1001),
+        ("a", 999, 1001),
+        ("a", 999, 999),
+        ("a", 1000, 1000),
+        ("a", 1000, 1001),
+        ("a", 0, -1),
+        ("a", False, 1),
+        ("a", 0, True),
+        ("a", True, 2),
+        ("a", "0", 1),
+        ("a", 0, "1"),
+        ("", 0, 1),
+        ("abcdefg", 0, 1),
+        ("A", 0, 1),
+        (0, 1, "a"),
+        (0, "a", 1),
+        (("a", 0, 1),),
+        PAGE,
+        "abc",
+    ]
+    beside += [(word, 0, 1) for word in BARRED]
+    rows = [(f"beside {at}", thing) for at, thing in enumerate(beside)]
+    odd = anything()
+    rows += odd
+    rows += [(f"room {label}", (thing, 0, 1)) for label, thing in odd]
+    rows += [(f"from {label}", ("a", thing, 1)) for label, thing in odd]
+    rows += [(f"to {label}", ("a", 0, thing)) for label, thing in odd]
+    rows += [(f"fourth {label}", ("a", 0, 1, thing)) for label, thing in odd]
+    return rows
+
+
+def no_tracks():
+    """Pairs (label, thing): things that are no TRACK, those a step beside one included."""
+    stay, good = ("a", 5, 6), lot(0, 5)
+    beside = [
+        (),
+        ((),),
+        ((), (stay,), ()),
+        ((), (stay,), None),
+        [(), (stay,)],
+        ([], (stay,)),
+        ((), [stay]),
+        ((), (list(stay),)),
+        ((stay,), ()),
+        ((), ()),
+        ((), stay),
+        (None, (stay,)),
+        (0, (stay,)),
+        ("", (stay,)),
+        ((), None),
+        ((), tuple(("a", at, at + 1) for at in range(11))),
+        ((), tuple(("a", at, at + 1) for at in range(999))),
+        ((), (("a", 0, 5), ("a", 6, 7))),
+        ((), (("a", 0, 5), ("a", 4, 7))),
+        ((), (("a", 0, 5), ("b", 0, 5))),
+        ((), (("a", 5, 6), ("b", 0, 5))),
+        ((), (("a", 0, 5), ("b", 5, 7), ("b", 8, 9))),
+        ((), (("a", 0, 5), ("b", 5, 5))),
+        ((), (("a", 0, 5), ("b", 5, 1001))),
+        ((good,) * 5, (stay,)),
+        ((good,) * 1000, (stay,)),
+        ((lot(0, 4),), (stay,)),
+        ((lot(0, 6),), (stay,)),
+        ((good, lot(0, 4)), (stay,)),
+        ((good, good, good, lot(1, 6)), (stay,)),
+        ((lot(0, 5, lot(0, 1)),), (stay,)),
+        ((lot(2, 5, lot(0, 1)),), (stay,)),
+        ([good], (stay,)),
+        ((list(good),), (stay,)),
+        ((good, None), (stay,)),
+        ((None,), (stay,)),
+        ((0,), (stay,)),
+        (((),), (stay,)),
+        (good, (stay,)),
+        nested(5),
+        nested(6),
+        nested(900),
+        nested(900, 2),
+        nested(900, 4),
+        nested(4, 2),
+        nested(4, 4),
+        nested(3, 4),
+        spread(4, 4, 1),
+        spread(2, 2, 2, 2),
+        spread(3, 3, 3),
+        lot(3, 4, spread(4, 4), lot(2, 3)),
+        "ab",
+        PAGE,
+        stay,
+        (stay,),
+        (good,),
+        (good, good),
+    ]
+    rows = [(f"beside {at}", thing) for at, thing in enumerate(beside)]
+    odd = anything()
+    rows += odd
+    rows += [(f"parts {label}", (thing, (stay,))) for label, thing in odd]
+    rows += [(f"stays {label}", ((), thing)) for label, thing in odd]
+    rows += [(f"part {label}", ((thing,), (stay,))) for label, thing in odd]
+    rows += [(f"part behind {label}", ((good, thing), (stay,))) for label, thing in odd]
+    rows += [(f"parts of a part {label}", (((thing, (("a", 0, 5),)),), (stay,))) for label, thing in odd]
+    rows += [(f"third {label}", ((), (stay,), thing)) for label, thing in odd]
+    for label, thing in no_stays():
+        rows += [(f"stay {label}", ((), (thing,))), (f"stay behind {label}", ((), (("a", 0, 5), thing)))]
+        rows += [(f"stay of a part {label}", ((((), (thing,)),), (stay,)))]
+    return rows
+
+
+def some_track(chance, end, within=4):
+    """A TRACK with this END, now and then with more in it than may stand in one."""
+    stays = []
+    begin = end
+    for _ in range(chance.choice((1, 1, 2, 3))):
+        first = max(0, begin - chance.randint(1, 4))
+        if first < begin:
+            stays.insert(0, (chance.choice("abc"), first, begin))
+            begin = first
+    many = chance.choice((0, 1, 2, 3)) if within > 1 and begin > 0 else 0
+    return (tuple(some_track(chance, begin, within - 1) for _ in range(many)), tuple(stays))
+
+
+def many_standing(track):
+    return 1 + sum(many_standing(part) for part in track[0])
+
+
+def some_tracks(many=120):
+    """TRACKS about the first and the last hours."""
+    chance = random.Random(23)
+    rows = []
+    while len(rows) < many:
+        track = some_track(chance, chance.choice((1, 2, 5, 9, 14, 20, 30, 990, 999, 1000)))
+        if many_standing(track) <= 12:
+            rows.append(track)
+    return rows

@@ -58,6 +58,23 @@ def names_bound(node):
     return []
 
 
+def names_of_file(name):
+    """All names that a file binds at module level, but its imports."""
+    return [one for row in ast.parse(text_of(name)).body
+            for node in ([row] if isinstance(row, (ast.FunctionDef, ast.ClassDef)) else ast.walk(row))
+            for one in names_bound(node)]
+
+
+def names_imported(name):
+    return [row.asname or row.name for node in ast.walk(ast.parse(text_of(name))) if isinstance(node, ast.ImportFrom)
+            for row in node.names]
+
+
+def imported_by(name):
+    return {node.module.removeprefix("coolbook.") + ".py" for node in ast.walk(ast.parse(text_of(name)))
+            if isinstance(node, ast.ImportFrom) and node.module != "__future__"}
+
+
 def own_methods():
     return {row.name for place, node in nodes() if isinstance(node, ast.ClassDef)
             for row in node.body if isinstance(row, ast.FunctionDef)}
@@ -109,6 +126,41 @@ class Rows(unittest.TestCase):
                 self.assertEqual(node.level, 0, place)
                 self.assertTrue(node.module == "__future__" or node.module.startswith("coolbook."), place)
                 self.assertNotIn("*", [row.name for row in node.names], place)
+
+    def test_imports_name_the_file_that_defines_the_name(self):
+        for place, node in nodes():
+            if isinstance(node, ast.ImportFrom) and node.module != "__future__":
+                defined = names_of_file(node.module.removeprefix("coolbook.") + ".py")
+                for row in node.names:
+                    self.assertIn(row.name, defined, place)
+
+    def test_no_two_files_import_from_each_other(self):
+        reached = {name: imported_by(name) for name in files()}
+        for _ in files():
+            reached = {name: found.union(*(reached[other] for other in found)) for name, found in reached.items()}
+        for name, found in reached.items():
+            self.assertNotIn(name, found)
+
+    def test_a_name_is_bound_once_in_a_file(self):
+        for name in files():
+            bound = names_of_file(name) + names_imported(name)
+            self.assertEqual(sorted(bound), sorted(set(bound)), name)
+
+    def test_no_local_has_the_name_of_a_class_or_an_import(self):
+        for name in files():
+            tree = ast.parse(text_of(name))
+            taken = names_imported(name) + [row.name for row in tree.body if isinstance(row, ast.ClassDef)]
+            for function in ast.walk(tree):
+                if isinstance(function, ast.FunctionDef):
+                    for node in ast.walk(function):
+                        if node is not function:
+                            bound = [one for one in names_bound(node) if one in taken]
+                            self.assertEqual(bound, [], (name, function.name))
+
+    def test_every_import_is_used(self):
+        for name in files():
+            used = {node.id for node in ast.walk(ast.parse(text_of(name))) if isinstance(node, ast.Name)}
+            self.assertEqual([one for one in names_imported(name) if one not in used], [], name)
 
     def test_names_are_plain(self):
         for place, node in nodes():

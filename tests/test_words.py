@@ -5,9 +5,8 @@ from coolbook import words
 from coolbook.errors import BadName
 from coolbook.words import is_name, is_whole, need_name, number_of, words_of
 
-from helper import odd_numbers, odd_texts, odd_things, odd_tuples, refusal_of
+from helper import BARRED, odd_numbers, odd_texts, odd_things, odd_tuples, refusal_of
 
-BARRED = ("page", "most", "lot", "at", "end", "grade", "none")
 SIGNS = [chr(code) for code in range(32, 127)] + ["\n"]
 
 
