@@ -44,19 +44,22 @@ def sums_of(table, budget, track, hours):
     return [total + max(parts, default=0) for total, *parts in zip(own, *borne)]
 
 
+def grade_sums(table, grade, track, hours):
+    """Tell for each BUDGET the sums of a TRACK at these HOURS."""
+    return [sums_of(table, budget, track, hours) for budget in grade]
+
+
 def spent_of(table, grade, track, hour):
     """Tell for each BUDGET what is SPENT ahead of an hour, by the warmth table of a BOOK."""
-    hours = hours_ahead(track, hour)
-    return tuple(sums_of(table, budget, track, hours)[-1] for budget in grade)
+    return tuple(sums[-1] for sums in grade_sums(table, grade, track, hours_ahead(track, hour)))
 
 
-def breach_of(table, grade, track, hour):
-    """Tell the BREACH (HOUR, NUMBER) if its HOUR is less than an hour, or None, by the warmth table of a BOOK."""
-    hours = hours_ahead(track, hour)
+def first_beyond(grade, hours, sums):
+    """Tell the least pair (HOUR, NUMBER) at which the sums of a GRADE at these HOURS are beyond MOST, or None."""
     beyond = [
         (at, number)
         for number, budget in enumerate(grade)
-        for at, total in zip(hours, sums_of(table, budget, track, hours)[1:])
+        for at, total in zip(hours, sums[number][1:])
         if total > budget[1]
     ]
     return min(beyond, default=None)
@@ -75,14 +78,15 @@ def gap_of(table, track, hour):
 
 def verdict_of(table, grade, track, hour):
     """Tell the VERDICT ahead of an hour, by the warmth table of a BOOK."""
-    over = breach_of(table, grade, track, hour)
+    hours = hours_ahead(track, hour)
+    sums = grade_sums(table, grade, track, hours)
+    over = first_beyond(grade, hours, sums)
     if over is not None:
         return ("spent", *over)
     untold = gap_of(table, track, hour)
     if untold is not None:
         return ("waits", *untold)
-    sums = spent_of(table, grade, track, hour)
-    return ("let", tuple(budget[1] - total for budget, total in zip(grade, sums)))
+    return ("let", tuple(budget[1] - totals[-1] for budget, totals in zip(grade, sums)))
 
 
 def spent(book, grade, track, hour):
@@ -99,7 +103,8 @@ def breach(book, grade, track):
     need_book(book)
     need_grade(grade)
     need_track(track)
-    return breach_of(warmth_table(book), grade, track, LAST_END)
+    hours = all_hours(track)
+    return first_beyond(grade, hours, grade_sums(warmth_table(book), grade, track, hours))
 
 
 def gap(book, track, hour):
@@ -133,9 +138,14 @@ def profile(book, track, hour):
     return tuple(sorted(counts.items()))
 
 
+def touched_by(changes, room, track, hour):
+    """Tell whether NEWS of a room tell an HOUR less than an hour at which a TRACK has been there."""
+    return any(at < hour and room in rooms_at(track, at) for at, old, new in changes)
+
+
 def touches(book, page, track, hour):
     """Tell whether a PAGE behind a BOOK TOUCHES a TRACK ahead of an hour."""
     changes = news(book, page)
     need_track(track)
     need_ahead(hour)
-    return any(at < hour and page[0] in rooms_at(track, at) for at, old, new in changes)
+    return touched_by(changes, page[0], track, hour)

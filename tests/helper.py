@@ -541,3 +541,95 @@ def some_tracks(many=120):
         if many_standing(track) <= 12:
             rows.append(track)
     return rows
+
+
+def no_texts():
+    """Pairs (label, thing): things that are no text."""
+    return odd_things() + odd_tuples() + odd_numbers() + [("bytes of a page", b"page a 0 1"), ("words", ["page", "a"])]
+
+
+DEEDS = (
+    ("grade", "g", GRADE),
+    ("hour", 5),
+    ("page", PAGE),
+    ("bring", "l", "g", "r"),
+    ("move", "l", "r"),
+    ("part", "l", ("a", "b")),
+    ("pour", ("a", "b"), "c"),
+    ("let", "l"),
+    ("back",),
+    ("again",),
+)
+
+
+def no_deeds():
+    """Pairs (label, thing): things that are no DEED by form, those a step beside one included."""
+    beside = [
+        (),
+        ("",),
+        ("nope",),
+        ("nope", "l"),
+        ("Back",),
+        ("back ",),
+        ("back", None),
+        ("back", ()),
+        ("again", "l"),
+        "back",
+        ["back"],
+        (b"back",),
+        ("hour",),
+        ("hour", -1),
+        ("hour", 1001),
+        ("hour", "5"),
+        ("hour", 5, 5),
+        ("hour", (5,)),
+        ("hour", True),
+        ("page",),
+        ("page",) + PAGE,
+        ("page", PAGE, PAGE),
+        ("page", list(PAGE)),
+        ("page", BOOK),
+        ("grade", "g"),
+        ("grade", GRADE),
+        ("grade", GRADE, "g"),
+        ("grade", "g", list(GRADE)),
+        ("grade", "g", BUDGET),
+        ("grade", "g", GRADE, GRADE),
+        ("bring", "l", "g"),
+        ("bring", "l", "g", "r", "r"),
+        ("move", "l"),
+        ("move", "l", "r", "r"),
+        ("part", "l"),
+        ("part", "l", "a"),
+        ("part", "l", "ab"),
+        ("part", "l", "a", "b"),
+        ("part", "l", ()),
+        ("part", "l", ("a", "b", "c", "d", "e")),
+        ("part", "l", ["a", "b"]),
+        ("part", ("a", "b"), "l"),
+        ("pour", ("a", "b")),
+        ("pour", (), "c"),
+        ("pour", ("a", "b", "c", "d", "e"), "f"),
+        ("pour", ["a", "b"], "c"),
+        ("pour", "c", ("a", "b")),
+        ("pour", "ab", "c"),
+        ("let",),
+        ("let", "l", "l"),
+        ("let", ("l",)),
+        list(DEEDS[0]),
+        DEEDS,
+        (DEEDS[8],),
+    ]
+    rows = [(f"beside {at}", thing) for at, thing in enumerate(beside)]
+    odd = anything()
+    rows += odd
+    rows += [(f"word {label}", (thing,)) for label, thing in odd]
+    rows += [(f"word ahead of a name {label}", (thing, "l")) for label, thing in odd]
+    names = [(repr(word), word) for word in BARRED + ("", "abcdefg", "A", "a1", "a b", "a\n")] + odd
+    for label, thing in names:
+        rows += [(f"{deed[0]} {at} {label}", deed[:at] + (thing,) + deed[at + 1:])
+                 for deed in DEEDS for at in range(1, len(deed))]
+        rows += [(f"part of {label}", ("part", "l", ("a", thing))), (f"pour of {label}", ("pour", (thing, "b"), "c"))]
+        rows += [(f"last of four {label}", ("part", "l", ("a", "b", "c", thing)))]
+        rows += [(f"one too many {label}", deed + (thing,)) for deed in DEEDS]
+    return rows

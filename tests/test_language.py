@@ -75,6 +75,15 @@ def imported_by(name):
             if isinstance(node, ast.ImportFrom) and node.module != "__future__"}
 
 
+def own_attributes():
+    return {node.attr for place, node in nodes() if isinstance(node, ast.Attribute) and isinstance(node.ctx, ast.Store)}
+
+
+def plain_kinds():
+    """Objects whose names own attributes may not have, but those of a short list."""
+    return ("", 0, [], {}, set(), b"")
+
+
 def own_methods():
     return {row.name for place, node in nodes() if isinstance(node, ast.ClassDef)
             for row in node.body if isinstance(row, ast.FunctionDef)}
@@ -179,6 +188,56 @@ class Rows(unittest.TestCase):
         for place, node in nodes():
             if isinstance(node, ast.Call) and isinstance(node.func, ast.Attribute):
                 self.assertIn(node.func.attr, METHODS | own, place)
+
+    def test_no_name_is_a_method_and_an_attribute(self):
+        self.assertEqual(own_methods() & own_attributes(), set())
+
+    def test_attributes_are_none_of_builtin_values(self):
+        taken = {name for thing in plain_kinds() for name in dir(thing)}
+        self.assertEqual(own_attributes() & taken - {"count", "index", "title", "find", "get", "join", "lower", "upper",
+                                                     "split", "strip", "copy", "add"}, set())
+
+    def test_attributes_that_are_read_are_assigned(self):
+        known = own_attributes() | own_methods() | METHODS
+        for place, node in nodes():
+            if isinstance(node, ast.Attribute) and isinstance(node.ctx, ast.Load):
+                self.assertIn(node.attr, known, place)
+
+    def test_module_level_is_plain(self):
+        for name in files():
+            above = []
+            for row in ast.parse(text_of(name)).body:
+                self.assertIsInstance(row, (ast.Expr, ast.ImportFrom, ast.FunctionDef, ast.ClassDef, ast.Assign), name)
+                if isinstance(row, ast.FunctionDef):
+                    above.append(row.name)
+                if isinstance(row, ast.Assign):
+                    for node in ast.walk(row.value):
+                        self.assertNotIsInstance(node, (ast.Call, ast.Lambda, ast.ListComp, ast.Set, ast.IfExp), name)
+                        if isinstance(node, ast.Name) and not node.id.isupper():
+                            self.assertIn(node.id, above, name)
+
+    def test_errors_are_made_where_they_are_raised(self):
+        for place, node in nodes():
+            if isinstance(node, ast.Raise) and node.exc is not None:
+                self.assertIsInstance(node.exc, ast.Call, place)
+                self.assertIsInstance(node.exc.func, ast.Name, place)
+            if isinstance(node, ast.ExceptHandler):
+                self.assertIsNotNone(node.type, place)
+                named = node.type.elts if isinstance(node.type, ast.Tuple) else [node.type]
+                for one in named:
+                    self.assertIn(one.id, names_of_file("errors.py"), place)
+
+    def test_no_call_has_stars_of_a_call(self):
+        for place, node in nodes():
+            if isinstance(node, ast.Call):
+                for one in node.args:
+                    if isinstance(one, ast.Starred):
+                        self.assertIsInstance(one.value, (ast.Name, ast.Attribute), place)
+
+    def test_sets_are_not_kept(self):
+        for place, node in nodes():
+            if isinstance(node, (ast.Assign, ast.Return)):
+                self.assertNotIsInstance(node.value, (ast.Set, ast.SetComp), place)
 
     def test_numbers_have_no_point(self):
         for place, node in nodes():
