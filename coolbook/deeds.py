@@ -102,12 +102,18 @@ def take_kind(reader, kind):
     return reader.take_name()
 
 
+def take_kinds(reader, kinds):
+    """Take things of these kinds up to the last word, and tell a list of them."""
+    things = [take_kind(reader, kind) for kind in kinds]
+    reader.need_over()
+    return things
+
+
 def take_deed(reader):
     """Take all words of a DEED, and tell it."""
     word = reader.next_word()
     reader.take_if(word in FORMS)
-    behind = [take_kind(reader, kind) for kind in in_text_order(word, FORMS[word])]
-    reader.need_over()
+    behind = take_kinds(reader, in_text_order(word, FORMS[word]))
     return (word, *in_text_order(word, behind))
 
 

@@ -633,3 +633,203 @@ def no_deeds():
         rows += [(f"last of four {label}", ("part", "l", ("a", "b", "c", thing)))]
         rows += [(f"one too many {label}", deed + (thing,)) for deed in DEEDS]
     return rows
+
+
+LEG = ("v", "a", "b", 3, 2)
+TABLE = (LEG, ("w", "b", "c", 5, 1), ("v", "a", "c", 4, 9))
+JOB = ((40, 0), "a", 2, "c", 9)
+
+
+def no_legs():
+    """Pairs (label, thing): things that are no LEG, those a step beside one included."""
+    beside = [
+        (),
+        ("v", "a", "b", 3),
+        ("v", "a", "b", 3, 2, 2),
+        ["v", "a", "b", 3, 2],
+        ("v", "a", "a", 3, 2),
+        ("v", "a", "b", -1, 2),
+        ("v", "a", "b", 1000, 1),
+        ("v", "a", "b", 1000, 0),
+        ("v", "a", "b", 3, 0),
+        ("v", "a", "b", 3, -1),
+        ("v", "a", "b", 0, 1001),
+        ("v", "a", "b", 1, 1000),
+        ("v", "a", "b", 999, 2),
+        ("v", "a", "b", 500, 501),
+        ("v", "a", "b", True, 2),
+        ("v", "a", "b", False, 2),
+        ("v", "a", "b", 3, True),
+        ("v", "a", "b", "3", 2),
+        ("v", "a", "b", 3, "2"),
+        ("v", "a", 3, "b", 2),
+        (3, 2, "v", "a", "b"),
+        "vabcd",
+        (LEG,),
+    ]
+    rows = [(f"beside {at}", thing) for at, thing in enumerate(beside)]
+    odd = anything()
+    rows += odd
+    for label, thing in no_names():
+        rows += [(f"name {at} {label}", LEG[:at] + (thing,) + LEG[at + 1:]) for at in range(3)]
+    rows += [(f"number {at} {label}", LEG[:at] + (thing,) + LEG[at + 1:]) for at in (3, 4) for label, thing in odd]
+    rows += [(f"sixth {label}", LEG + (thing,)) for label, thing in odd]
+    return rows
+
+
+def no_tables():
+    """Pairs (label, thing): things that are no TABLE."""
+    beside = [[], [LEG], LEG, {}, "", None, 0, (LEG, list(LEG)), (LEG, None), ((),), (TABLE,), (LEG,) * 41, (LEG,) * 1000]
+    rows = [(f"beside {at}", thing) for at, thing in enumerate(beside)]
+    rows += anything()
+    wrong = no_legs()
+    rows += [(f"one {label}", (thing,)) for label, thing in wrong]
+    rows += [(f"behind {label}", (LEG, thing)) for label, thing in wrong]
+    return rows
+
+
+def no_jobs():
+    """Pairs (label, thing): things that are no JOB of GRADE."""
+    beside = [
+        (),
+        JOB[:4],
+        JOB + (0,),
+        list(JOB),
+        ([40, 0],) + JOB[1:],
+        ((40,),) + JOB[1:],
+        ((),) + JOB[1:],
+        ((40, 0, 0),) + JOB[1:],
+        ((41, 0),) + JOB[1:],
+        ((0, 10),) + JOB[1:],
+        ((-1, 0),) + JOB[1:],
+        ((0, -1),) + JOB[1:],
+        ((True, 0),) + JOB[1:],
+        ((0, False),) + JOB[1:],
+        (("0", 0),) + JOB[1:],
+        (40,) + JOB[1:],
+        ((0, 0), "a", -1, "c", 9),
+        ((0, 0), "a", 1000, "c", 1000),
+        ((0, 0), "a", True, "c", 9),
+        ((0, 0), "a", False, "c", 9),
+        ((0, 0), "a", 2, "c", 1),
+        ((0, 0), "a", 2, "c", 0),
+        ((0, 0), "a", 2, "c", 1001),
+        ((0, 0), "a", 0, "c", True),
+        ((0, 0), "a", 0, "c", False),
+        ((0, 0), "a", "2", "c", 9),
+        ((0, 0), "a", 2, "c", "9"),
+        ((0, 0), 2, "a", "c", 9),
+        "abcde",
+        (JOB,),
+        LEG,
+    ]
+    rows = [(f"beside {at}", thing) for at, thing in enumerate(beside)]
+    odd = anything()
+    rows += odd
+    for label, thing in no_names():
+        rows += [(f"name {at} {label}", JOB[:at] + (thing,) + JOB[at + 1:]) for at in (1, 3)]
+    rows += [(f"at {at} {label}", JOB[:at] + (thing,) + JOB[at + 1:]) for at in (0, 2, 4) for label, thing in odd]
+    rows += [(f"spents {label}", ((0, thing),) + JOB[1:]) for label, thing in odd]
+    rows += [(f"sixth {label}", JOB + (thing,)) for label, thing in odd]
+    return rows
+
+
+def rate_of(budget, warmth):
+    """What an hour spends by a BUDGET, for the tests."""
+    return ([0] + [worth for above, worth in budget[0] if above < warmth])[-1]
+
+
+def hour_sums(table, grade, room, hour):
+    """What an hour in a room spends by each BUDGET, None where it is UNTOLD, by a table of the tests."""
+    if (room, hour) not in table:
+        return None
+    return tuple(rate_of(budget, table[room, hour]) for budget in grade)
+
+
+def sum_up(one, other):
+    return None if other is None else tuple(mine + yours for mine, yours in zip(one, other))
+
+
+def over_most(grade, sums):
+    return any(total > budget[1] for budget, total in zip(grade, sums))
+
+
+def plain_least(tuples):
+    """Those that no other one is at most by each number, word by word."""
+    return sorted(one for one in set(tuples)
+                  if not any(other != one and all(x <= y for x, y in zip(other, one)) for other in set(tuples)))
+
+
+def lie_on(table, grade, sums, room, first, beyond):
+    """Sums with what the hours in a room spend, None where one is UNTOLD or it is beyond a MOST."""
+    for hour in range(first, beyond):
+        sums = sums and sum_up(sums, hour_sums(table, grade, room, hour))
+    return sums if sums and not over_most(grade, sums) else None
+
+
+def plain_ways(table, grade, legs, job):
+    """All GOOD WAYS by (numbers) with (COMING, LEFTS), tried one by one."""
+    told, found = table, {}
+    spents, start_room, start_hour, goal, latest = job
+
+    def go(way, room, hour, sums):
+        if room == goal and hour <= latest:
+            found[way] = (hour, tuple(budget[1] - total for budget, total in zip(grade, sums)))
+        for number, (van, source, target, start, last) in enumerate(legs):
+            if source == room and start >= hour:
+                waited = lie_on(told, grade, sums, room, hour, start)
+                gone = waited and lie_on(told, grade, waited, van, start, start + last)
+                if gone:
+                    go(way + (number,), target, start + last, gone)
+    go((), start_room, start_hour, spents)
+    return found
+
+
+def plain_comes(table, grade, legs, job):
+    """What COMES to each (ROOM, HOUR), hour by hour, with all that could be spent by then."""
+    spents, start_room, start_hour, goal, latest = job
+    found, todo = {}, [(start_room, start_hour, spents)]
+    while todo:
+        room, hour, sums = todo.pop()
+        if hour > latest or sums in found.setdefault((room, hour), set()):
+            continue
+        found[room, hour].add(sums)
+        waited = lie_on(table, grade, sums, room, hour, hour + 1)
+        if waited:
+            todo.append((room, hour + 1, waited))
+        for van, source, target, start, last in legs:
+            if (source, start) == (room, hour):
+                gone = lie_on(table, grade, sums, van, start, start + last)
+                if gone:
+                    todo.append((target, start + last, gone))
+    return sorted((room, hour, tuple(plain_least(sums))) for (room, hour), sums in found.items() if hour <= latest)
+
+
+def some_job(chance, grade, hours=13):
+    """A JOB whose rooms are few."""
+    first = chance.randrange(3)
+    spents = tuple(chance.choice((0, 0, min(1, budget[1]), min(3, budget[1]))) for budget in grade)
+    return (spents, chance.choice("aaab"), first, chance.choice("cccb"), chance.choice((first, 9, hours, hours, hours)))
+
+
+def some_leg(chance):
+    source, target = chance.choice(("ab", "bc", "ac", "ab", "bc", "ba", "cb"))
+    return (chance.choice("vwx"), source, target, chance.randrange(11), chance.choice((1, 1, 2, 3)))
+
+
+def some_way_cases(many=300, seed=77):
+    """Rows (BOOK, table, GRADE, TABLE, JOB), small enough to try all."""
+    chance = random.Random(seed)
+    rows = []
+    for _ in range(many):
+        pages = [(room, 0, tuple(chance.randint(-1, 3) for _ in range(chance.choice((6, 12, 13, 13, 13)))))
+                 for room in "abcvwx" if chance.random() < 0.95]
+        pages += [(chance.choice("abcv"), chance.randrange(8), (chance.randint(-1, 3),)) for _ in range(chance.randrange(3))]
+        grade = tuple((tuple((above, chance.choice((0, 0, 1, 2, 3))) for above in sorted(chance.sample(range(-1, 3), 2))),
+                       chance.choice((5, 12, 30, 99))) for _ in range(chance.randint(1, 3)))
+        if chance.random() < 0.5:
+            # By these each WARMTH spends by one BUDGET alone, so that tuples are often unlike.
+            grade = ((((1, 2), (2, 3)), 30), (((0, 2), (1, 0)), 30), (((-2, 1), (0, 0)), 20))[:chance.choice((2, 3))]
+        legs = tuple(some_leg(chance) for _ in range(chance.choice((0, 1, 3, 6, 12, 18, 24))))
+        rows.append((tuple(pages), table_of(pages), grade, legs, some_job(chance, grade)))
+    return rows
