@@ -375,16 +375,13 @@ class TooManyOnes(unittest.TestCase):
 
     def test_others_tell_all_the_same(self):
         self.assertIs(is_way(self.book, OPEN, self.more, self.job, (0,)), True)
+        self.assertIs(is_way(self.book, OPEN, self.more, self.job, ()), False)
         self.assertEqual(left_on(self.book, OPEN, self.more, self.job, (0,)), (1, (9999,)))
         self.assertIs(refusal_of(left_on, self.book, OPEN, self.more, self.job, ()), BadPaper)
-        self.assertIs(refusal_of(check_bars, self.book, OPEN, self.more, self.job, 9999, ()), BadPaper)
-        bars = tuple(sorted([("a", hour, ((0,),)) for hour in range(1001)] + [("b", hour, ((0,),)) for hour in range(1, 1000)]))
-        self.assertEqual(len(bars), 2000)
-        self.assertIs(refusal_of(check_bars, self.book, OPEN, self.more, self.job, 9999, bars), BadPaper)
-        free = (told("v", 0, 0, 0, 0),) + all_day("a")
-        small = (("a", 0, ((0,),)),)
-        self.assertIsNone(check_bars(free[:1], OPEN, self.more, ((0,), "a", 1, "b", 1000), -1, (("a", 1, ((0,),)),)))
-        self.assertIs(refusal_of(check_bars, free, OPEN, self.more, self.job, 9999, small), BadPaper)
+        rows = [("a", hour, ((0,),)) for hour in range(1001)] + [("b", hour, ((0,),)) for hour in range(1, 1001)]
+        self.assertIs(refusal_of(check_bars, self.book, OPEN, self.more, self.job, 9999, tuple(rows)), BadPaper)
+        self.assertIs(refusal_of(check_bars, self.book, OPEN, self.more, self.job, 9999, tuple(rows[:-1])), BadPaper)
+        self.assertIsNone(check_bars(self.book, OPEN, self.just, self.job, 9999, tuple(rows[:1001] + rows[1002:])))
 
     def stages(self, many):
         """(BOOK, TABLE, JOB): each stage spends by the one BUDGET or by the other one, twice what the stage ahead does."""
@@ -419,6 +416,13 @@ class TooManyOnes(unittest.TestCase):
         for function in (comes, peaks, best_way, bars_of):
             self.assertIs(refusal_of(function, book, self.steps, legs, job), TooMany)
         self.assertEqual(left_on(book, self.steps, legs, job, tuple(range(0, 20, 2))), (job[4], (9999 - 1023, 9999)))
+        self.assertIs(is_way(book, self.steps, legs, job, tuple(range(1, 20, 2))), True)
+        rows = {(job[1], 0): ((0, 0),)}
+        for van, source, target, start, last in legs:
+            rows[target, start + last] = ((0, 0),)
+        paper = tuple((*place, rows[place]) for place in sorted(rows))
+        self.assertIsNone(check_bars(book, self.steps, legs, job, 9999, paper))
+        self.assertIs(refusal_of(check_bars, book, self.steps, legs, job, 9998, paper), BadPaper)
 
 
 class Refusals(unittest.TestCase):
