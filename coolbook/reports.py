@@ -1,10 +1,8 @@
 """Reports: hour by hour how warm a track lay, and what was spent by then."""
 
 from coolbook.errors import BadPaper
-from coolbook.grades import need_grade
-from coolbook.pages import need_book, warmth_table
-from coolbook.spending import grade_sums, hours_ahead, need_ahead, places_of
-from coolbook.tracks import need_track
+from coolbook.pages import warmth_table
+from coolbook.spending import grade_sums, hours_ahead, need_asked, places_of
 from coolbook.words import is_whole
 
 
@@ -21,10 +19,7 @@ def report_of(table, grade, track, hour):
 
 def report(book, grade, track, hour):
     """Tell the REPORT of a TRACK ahead of an hour."""
-    need_book(book)
-    need_grade(grade)
-    need_track(track)
-    need_ahead(hour)
+    need_asked(book, grade, track, hour)
     return report_of(warmth_table(book), grade, track, hour)
 
 

@@ -13,6 +13,14 @@ def need_ahead(thing):
         raise BadHour("what is asked ahead of an hour is asked ahead of one from 0 to 1,000")
 
 
+def need_asked(book, grade, track, hour):
+    """Refuse anything but a BOOK, a GRADE, a TRACK and an hour to ask ahead of, in this order."""
+    need_book(book)
+    need_grade(grade)
+    need_track(track)
+    need_ahead(hour)
+
+
 def places_of(track, hour):
     """Tell the pairs (HOUR, ROOM) at which a TRACK lies by its own STAYS ahead of an hour, rising."""
     return [(at, room) for room, first, beyond in track[1] for at in range(first, min(beyond, hour))]
@@ -91,10 +99,7 @@ def verdict_of(table, grade, track, hour):
 
 def spent(book, grade, track, hour):
     """Tell for each BUDGET of a GRADE what is SPENT of a TRACK ahead of an hour."""
-    need_book(book)
-    need_grade(grade)
-    need_track(track)
-    need_ahead(hour)
+    need_asked(book, grade, track, hour)
     return spent_of(warmth_table(book), grade, track, hour)
 
 
@@ -117,10 +122,7 @@ def gap(book, track, hour):
 
 def verdict(book, grade, track, hour):
     """Tell the VERDICT on a TRACK ahead of an hour."""
-    need_book(book)
-    need_grade(grade)
-    need_track(track)
-    need_ahead(hour)
+    need_asked(book, grade, track, hour)
     return verdict_of(warmth_table(book), grade, track, hour)
 
 
